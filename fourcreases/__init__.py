@@ -1,0 +1,1 @@
+"""Fourcreases: sheets of stiff plates, and every way in which they fold."""

@@ -1,0 +1,186 @@
+"""What the package does, done again with Python's fractions and by the words of the document alone."""
+from fractions import Fraction
+from itertools import product
+
+from tests.makers import pair, worth
+
+
+def corner_mn(sheet, corner):
+    """m and n, out of e1 + e3 = m (e2 - e4) and e2 + e4 = n (e1 - e3)."""
+    ways = []
+    x, y = map(worth, sheet.corners[corner])
+    for crease in sheet.around(corner):
+        other = sum(crease) - corner
+        p, q = map(worth, sheet.corners[other])
+        square = (p - x) ** 2 + (q - y) ** 2
+        size = root(square)
+        ways.append(((p - x) / size, (q - y) / size))
+    (a, b), (c, d), (e, f), (g, h) = ways
+    return ratio((a + e, b + f), (c - g, d - h)), ratio((c + g, d + h), (a - e, b - f))
+
+
+def root(square):
+    return Fraction(whole_root(square.numerator), whole_root(square.denominator))
+
+
+def whole_root(number):
+    low, high = 0, number + 1
+    while high - low > 1:
+        middle = (low + high) // 2
+        if middle * middle <= number:
+            low = middle
+        else:
+            high = middle
+    assert low * low == number
+    return low
+
+
+def ratio(one, other):
+    """The number by which other gives one."""
+    at = 0 if other[0] else 1
+    found = one[at] / other[at]
+    assert one == (other[0] * found, other[1] * found)
+    return found
+
+
+def line_rows(sheet, corner, pick):
+    """Three rows of a linear system: the numbers at a corner are on one of its lines."""
+    m, n = corner_mn(sheet, corner)
+    line = (Fraction(1), -m, Fraction(1), m) if pick == 1 else (-n, Fraction(1), n, Fraction(1))
+    base = pick - 1
+    places = [sheet.creases.index(crease) for crease in sheet.around(corner)]
+    rows = []
+    for k in range(4):
+        if k != base:
+            row = [Fraction(0)] * len(sheet.creases)
+            row[places[k]] += 1
+            row[places[base]] -= line[k]
+            rows.append(row)
+    return rows
+
+
+def echelon(rows):
+    """The reduced rows of some rows."""
+    rows = [list(row) for row in rows]
+    done = []
+    wide = len(rows[0]) if rows else 0
+    for column in range(wide):
+        found = next((row for row in rows if row[column]), None)
+        if found is None:
+            continue
+        rows.remove(found)
+        found = [x / found[column] for x in found]
+        rows = [[x - row[column] * y for x, y in zip(row, found)] if row[column] else row for row in rows]
+        done = [[x - row[column] * y for x, y in zip(row, found)] if row[column] else row for row in done]
+        done.append(found)
+    return done
+
+
+def null_rows(rows, wide):
+    """Reduced rows of all solutions of a linear system of so many unknowns."""
+    found = echelon(rows)
+    heads = [next(k for k, x in enumerate(row) if x) for row in found]
+    out = []
+    for free in range(wide):
+        if free not in heads:
+            row = [Fraction(0)] * wide
+            row[free] = Fraction(1)
+            for head, other in zip(heads, found):
+                row[head] = -other[free]
+            out.append(row)
+    return echelon(out)
+
+
+def told_space(sheet, told):
+    """The reduced rows of the numbers that are on the told (corner, line)s, as the package tells rows."""
+    rows = [row for corner, pick in told for row in line_rows(sheet, corner, pick)]
+    return as_rows(null_rows(rows, len(sheet.creases)))
+
+
+def as_rows(rows):
+    return tuple(tuple(map(pair, row)) for row in rows)
+
+
+def choice_space(sheet, choice):
+    return told_space(sheet, list(zip(sheet.inner, choice)))
+
+
+def lies_in(row, rows):
+    """Tell whether a row is a sum of multiples of reduced rows."""
+    left = [worth(x) for x in row]
+    for other in rows:
+        head = next(k for k, x in enumerate(other) if x[0])
+        factor = left[head]
+        left = [x - factor * worth(y) for x, y in zip(left, other)]
+    return not any(left)
+
+
+def all_motions(sheet):
+    """The motions by their definition."""
+    spaces = []
+    for choice in product((1, 2), repeat=len(sheet.inner)):
+        space = choice_space(sheet, choice)
+        if space not in spaces:
+            spaces.append(space)
+    return [
+        one for one in spaces
+        if not any(one != other and all(lies_in(row, other) for row in one) for other in spaces)
+    ]
+
+
+def sum_of(rows, factors, wide):
+    """A sum of multiples of rows, as numbers of the package."""
+    total = [Fraction(0)] * wide
+    for row, factor in zip(rows, factors):
+        total = [x + worth(y) * factor for x, y in zip(total, row)]
+    return tuple(map(pair, total))
+
+
+def turn_round(start, end, tangent, place):
+    """A space point turned about a directed line, by the angle whose half has a tangent (Rodrigues)."""
+    axis = [b - a for a, b in zip(start, end)]
+    size = root(sum(x * x for x in axis))
+    axis = [x / size for x in axis]
+    cosine = (1 - tangent ** 2) / (1 + tangent ** 2)
+    sine = 2 * tangent / (1 + tangent ** 2)
+    v = [b - a for a, b in zip(start, place)]
+    along = sum(x * y for x, y in zip(axis, v))
+    side = [
+        axis[1] * v[2] - axis[2] * v[1], axis[2] * v[0] - axis[0] * v[2], axis[0] * v[1] - axis[1] * v[0],
+    ]
+    return tuple(
+        s + cosine * x + sine * y + (1 - cosine) * along * a for s, x, y, a in zip(start, v, side, axis)
+    )
+
+
+def solid(point):
+    return tuple(map(worth, point))
+
+
+def carried_flat(sheet, placing, number, place):
+    """The space point at which a point of the sheet's plane comes to lie with the plane of a plate."""
+    plate = sheet.plates[number]
+    a, b, c = [tuple(map(worth, sheet.corners[corner])) for corner in plate[:3]]
+    p, q, r = [solid(point) for point in placing[number][:3]]
+    det = (b[0] - a[0]) * (c[1] - a[1]) - (b[1] - a[1]) * (c[0] - a[0])
+    x, y = place[0] - a[0], place[1] - a[1]
+    s = (x * (c[1] - a[1]) - y * (c[0] - a[0])) / det
+    t = ((b[0] - a[0]) * y - (b[1] - a[1]) * x) / det
+    return tuple(i + s * (j - i) + t * (k - i) for i, j, k in zip(p, q, r))
+
+
+def crease_holds(sheet, placing, crease, number):
+    """Tell whether the plate on the left lies as the rule of [6.2] says."""
+    left, right = sheet.beside(crease)
+    start, end = [
+        solid(placing[right][sheet.plates[right].index(corner)]) for corner in crease
+    ]
+    for corner, point in zip(sheet.plates[left], placing[left]):
+        flat = carried_flat(sheet, placing, right, tuple(map(worth, sheet.corners[corner])))
+        if turn_round(start, end, worth(number), flat) != solid(point):
+            return False
+    return True
+
+
+def square(one, other):
+    return sum((worth(a) - worth(b)) ** 2 for a, b in zip(one, other))

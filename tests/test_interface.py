@@ -1,0 +1,103 @@
+"""[0.2] and the interface: names, parameters, files, and equal results for equal arguments."""
+import importlib
+import inspect
+import unittest
+
+from fourcreases import errors
+from tests.makers import point, small_fold_net, star
+from fourcreases.motions import motions
+from fourcreases.trees import all_tree
+
+INTERFACE = {
+    "fracs": {
+        "frac_of": "top bottom", "frac_add": "one other", "frac_sub": "one other", "frac_mul": "one other",
+        "frac_div": "one other", "frac_sign": "one other", "frac_root": "one",
+    },
+    "plane": {"length_of": "one other", "turn_of": "one other third", "is_plate": "thing", "lie_over": "one other"},
+    "sheets": {"Sheet": "corners plates"},
+    "corners": {
+        "corner_fractions": "sheet corner", "corner_tangents": "sheet corner", "line_of": "sheet corner four",
+    },
+    "stands": {"is_stand": "sheet thing", "open_corner": "sheet numbers"},
+    "motions": {
+        "space_of": "sheet choice", "bar_of": "sheet choice", "motions": "sheet", "hands": "sheet",
+        "motions_with": "sheet numbers", "folded": "sheet crease", "can_fold": "sheet crease",
+        "still_creases": "sheet", "one_motion": "sheet stands",
+    },
+    "trees": {
+        "never_tree": "sheet crease", "is_never_tree": "sheet crease thing", "all_tree": "sheet",
+        "is_all_tree": "sheet spaces thing",
+    },
+    "space": {
+        "is_placing": "sheet thing", "placed": "sheet numbers", "shown_numbers": "sheet placing",
+        "gap2": "sheet numbers one other", "spot_at": "sheet numbers spot",
+    },
+}
+STAND = ((1, 1), (2, 1), (-1, 1), (2, 1))
+SPOT = (2, point(-3, 4))
+
+
+def calls():
+    """A call of each function that takes a sheet, with its arguments."""
+    sheet = small_fold_net()
+    rows = motions(sheet)
+    numbers = rows[0][0]
+    crease = sheet.creases[3]
+    corner = sheet.inner[1]
+    spot = (1, sheet.corners[sheet.plates[1][0]])
+    module = importlib.import_module
+    placing = module("fourcreases.space").placed(sheet, numbers)
+    told = {
+        "sheet": sheet, "corner": corner, "four": [(0, 1)] * 4, "numbers": numbers, "choice": [1, 2, 1, 2],
+        "crease": crease, "stands": [numbers], "spaces": rows, "placing": placing, "one": spot, "other": spot,
+        "spot": spot, "thing": all_tree(sheet),
+    }
+    for name, functions in INTERFACE.items():
+        if name not in ("fracs", "plane", "sheets"):
+            for function, parameters in functions.items():
+                call = getattr(module("fourcreases." + name), function)
+                yield call, {parameter: told[parameter] for parameter in parameters.split()}
+
+
+class InterfaceTest(unittest.TestCase):
+    def test_names_parameters_and_files(self):
+        for name, functions in INTERFACE.items():
+            module = importlib.import_module("fourcreases." + name)
+            for function, parameters in functions.items():
+                found = getattr(module, function)
+                self.assertEqual(list(inspect.signature(found).parameters), parameters.split(), function)
+                self.assertEqual(found.__module__, "fourcreases." + name)
+
+    def test_methods_of_sheet(self):
+        sheet = importlib.import_module("fourcreases.sheets").Sheet
+        for name, parameters in (("around", ["self", "corner"]), ("beside", ["self", "crease"])):
+            self.assertEqual(list(inspect.signature(vars(sheet)[name]).parameters), parameters)
+        self.assertIn("__eq__", vars(sheet))
+        self.assertEqual(
+            set(vars(star())) & {"corners", "plates", "creases", "rim", "inner", "inside"},
+            {"corners", "plates", "creases", "rim", "inner", "inside"},
+        )
+
+    def test_errors_stand_in_their_file(self):
+        for name, found in vars(errors).items():
+            if isinstance(found, type):
+                self.assertEqual(found.__module__, "fourcreases.errors", name)
+
+
+class EqualResultsTest(unittest.TestCase):
+    def test_by_name_twice(self):
+        for (call, first), (_, second) in zip(calls(), calls()):
+            before = repr({name: thing for name, thing in first.items() if name != "sheet"})
+            one, other = call(**first), call(**second)
+            self.assertEqual(one, other, call)
+            self.assertEqual(call(**first), one)
+            self.assertEqual(repr({name: thing for name, thing in first.items() if name != "sheet"}), before)
+            self.assertEqual(first["sheet"], small_fold_net())
+
+    def test_by_place(self):
+        for call, arguments in calls():
+            self.assertEqual(call(*arguments.values()), call(**arguments))
+
+
+if __name__ == "__main__":
+    unittest.main()
