@@ -140,10 +140,8 @@ def inner_corners(many, owners):
 def makes_half_turns(spots, corner, around):
     """Tell whether opposite angles between four creases at a corner make a half turn together."""
     first, second, third, fourth = [arrow(spots[corner], spots[other]) for other in around]
-    # Angles add up as complex numbers are multiplied; a half turn is a number below 0 alone.
-    one = (dot(first, second), cross(first, second))
-    other = (dot(third, fourth), cross(third, fourth))
-    return one[0] * other[1] + one[1] * other[0] == 0 and one[0] * other[0] - one[1] * other[1] < 0
+    # The sine of the sum of both angles: it is above 0 and below a whole turn, as the two others are, too.
+    return dot(first, second) * cross(third, fourth) + cross(first, second) * dot(third, fourth) == 0
 
 
 def check_rim(plates, owners):

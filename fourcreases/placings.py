@@ -2,7 +2,7 @@
 from fourcreases.flat import arrow, lines_of, side_of, size_of, spread
 from fourcreases.kinds import is_integer, is_point, is_tuple_of
 from fourcreases.ratios import NOUGHT, lowest, plus
-from fourcreases.turning import REST, turn_about, turn_behind, turned
+from fourcreases.turning import REST, turn_behind, turned
 
 
 def hinges_of(sheet):
@@ -15,11 +15,11 @@ def hinges_of(sheet):
     return rows
 
 
-def crease_turn(sheet, place, number):
-    """The turn about the crease at a place by a number."""
+def beyond_crease(sheet, place, turn, number):
+    """The turn of the plate beyond the crease at a place, by the turn of the plate ahead and a number."""
     a, b = sheet.creases[place]
     vector = arrow(spread(sheet.corners[a]), spread(sheet.corners[b]))
-    return turn_about(vector, size_of(vector), number)
+    return turn_behind(turn, vector, size_of(vector), number)
 
 
 def plate_turns(sheet, numbers):
@@ -33,8 +33,7 @@ def plate_turns(sheet, numbers):
         for beyond, place, sign in rows[number]:
             if beyond not in turns:
                 top, bottom = numbers[place]
-                turn = crease_turn(sheet, place, (sign * top, bottom))
-                turns[beyond] = turn_behind(turns[number], turn)
+                turns[beyond] = beyond_crease(sheet, place, turns[number], (sign * top, bottom))
                 waiting.append(beyond)
         at += 1
     return turns

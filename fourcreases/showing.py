@@ -9,8 +9,8 @@ def whole_points(points):
     """Points as tuples of integers, and the weight by which all of them were multiplied."""
     weight = 1
     for point in points:
-        for _, bottom in point:
-            weight = lcm(weight, bottom)
+        for _, below in point:
+            weight = lcm(weight, below)
     return [tuple([top * (weight // bottom) for top, bottom in point]) for point in points], weight
 
 

@@ -16,22 +16,12 @@ def slim_turn(turn):
     return tuple([part // shared for part in turn])
 
 
-def turn_about(vector, size, number):
-    """The turn about a vector of the plane with a size, by the angle whose half has a tangent."""
+def turn_behind(turn, vector, size, number):
+    """The turn about a vector of the plane with a size, by a number, and behind it another turn."""
+    a, b, c, d = turn
     top, bottom = number
-    return slim_turn((bottom * size, top * vector[0], top * vector[1], 0))
-
-
-def turn_behind(one, other):
-    """The turn that does the second one first, then the first one."""
-    a, b, c, d = one
-    e, f, g, h = other
-    return slim_turn((
-        a * e - b * f - c * g - d * h,
-        a * f + b * e + c * h - d * g,
-        a * g - b * h + c * e + d * f,
-        a * h + b * g - c * f + d * e,
-    ))
+    e, f, g = bottom * size, top * vector[0], top * vector[1]
+    return slim_turn((a * e - b * f - c * g, a * f + b * e - d * g, a * g + c * e + d * f, b * g - c * f + d * e))
 
 
 def turned(turn, vector):

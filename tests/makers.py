@@ -259,6 +259,15 @@ def stiff_net():
     return net(table, [2, 3], [2, 2], Fraction(1))
 
 
+def uneven_nets():
+    """Two sheets with still creases; some of their corners have m or n 0."""
+    half = Fraction(1, 2)
+    more = Fraction(3, 2)
+    two = angles_net([(2, 2), (1, 1)], [(2, 2), (1, more)], [[2]])
+    three = angles_net([(1, more), (more, more), (half, Fraction(2, 3))], [(1, more), (1, more)], [[1, 1]])
+    return [net(two, [1], [3], Fraction(1)), net(three, [2, 3], [1], Fraction(1))]
+
+
 def with_fins(sheet, many):
     """A sheet with thin plates of three corners more on the sides of its rim."""
     corners = [(worth(x), worth(y)) for x, y in sheet.corners]

@@ -10,7 +10,9 @@ FILES = sorted(FOLDER.glob("*.py"))
 LIBRARY = {
     "math": {"gcd", "lcm", "isqrt", "comb", "perm", "factorial"},
     "heapq": {"heappush", "heappop", "heapify", "heapreplace", "heappushpop"},
-    "itertools": {"product", "combinations", "permutations", "chain", "accumulate", "pairwise", "islice", "zip_longest"},
+    "itertools": {
+        "product", "combinations", "permutations", "chain", "accumulate", "pairwise", "islice", "zip_longest",
+    },
     "collections": {"defaultdict", "deque"},
 }
 BUILTINS = set(
@@ -225,7 +227,8 @@ class CodeTest(unittest.TestCase):
         changing = {"append", "clear", "extend", "insert", "pop", "remove", "reverse", "setdefault", "update"}
         for name, loop in nodes(ast.For):
             over = {ast.dump(node) for node in ast.walk(loop.iter) if isinstance(node, (ast.Name, ast.Attribute))}
-            copied = isinstance(loop.iter, ast.Call) and getattr(loop.iter.func, "id", "") in ("list", "sorted", "range")
+            call = getattr(getattr(loop.iter, "func", None), "id", "")
+            copied = call in ("list", "sorted", "range")
             for node in ast.walk(ast.Module(loop.body, [])):
                 if isinstance(node, ast.Call) and isinstance(node.func, ast.Attribute) and node.func.attr in changing:
                     self.assertTrue(copied or ast.dump(node.func.value) not in over, (name, node.lineno))

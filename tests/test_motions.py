@@ -10,7 +10,7 @@ from fourcreases.motions import (
 from fourcreases.stands import is_stand
 from tests.makers import (
     FOLD_CHOICE, angles_net, fold_net, grid, ladder, net, rhombs, single, small_fold_net, star,
-    stiff_net, wide_star, with_fins, zigzag,
+    stiff_net, uneven_nets, wide_star, with_fins, zigzag,
 )
 from tests.reckoning import all_motions, choice_space, corner_mn, lies_in, sum_of
 from tests.things import DIGITS_40, unchanged, wrong_things
@@ -32,6 +32,7 @@ def small_sheets():
     return [
         star(), grid(1, 1), grid(2, 1), grid(2, 2), grid(3, 3), zigzag(2, 3), zigzag(3, 3), rhombs(3), small_fold_net(),
         half_stiff(), ladder(6), single(), with_fins(small_fold_net(), 4), wide_star(8), grid(3, 2), zigzag(4, 3),
+        *uneven_nets(),
     ]
 
 

@@ -112,7 +112,8 @@ class AroundTest(unittest.TestCase):
     def test_flags_are_no_corners(self):
         with self.assertRaises(NoCorner):
             star().around(False)
-        sheet = Sheet(star().corners[1::-1] + star().corners[2:], [(1, 0, 5, 2), (1, 2, 6, 3), (1, 3, 7, 4), (1, 4, 8, 0)])
+        corners = star().corners[1::-1] + star().corners[2:]
+        sheet = Sheet(corners, [(1, 0, 5, 2), (1, 2, 6, 3), (1, 3, 7, 4), (1, 4, 8, 0)])
         self.assertEqual(sheet.inner, (1,))
         with self.assertRaises(NoCorner):
             sheet.around(True)
@@ -168,7 +169,8 @@ class EqualTest(unittest.TestCase):
 
     def test_other_things(self):
         sheet = single()
-        for other in (None, 0, True, "sheet", (), sheet.corners, (sheet.corners, sheet.plates), {}, [sheet], NoCorner()):
+        parts = (sheet.corners, sheet.plates)
+        for other in (None, 0, True, "sheet", (), sheet.corners, parts, {}, [sheet], NoCorner()):
             self.assertFalse(sheet == other)
             self.assertFalse(other == sheet)
             self.assertTrue(sheet != other)

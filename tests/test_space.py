@@ -1,13 +1,13 @@
 """[6.1] to [6.4] Sheets in space."""
 import unittest
 from fractions import Fraction
-from itertools import combinations
+from itertools import combinations, permutations
 
 from fourcreases.errors import NoPlacing, NoSpot, NoStand, Shut
 from fourcreases.motions import motions
 from fourcreases.space import gap2, is_placing, placed, shown_numbers, spot_at
 from tests.makers import (
-    fold_net, grid, ladder, pair, point, rhombs, single, small_fold_net, star, step, wide_star, with_fins, worth, zigzag,
+    fold_net, grid, ladder, pair, point, rhombs, single, small_fold_net, star, wide_star, with_fins, worth, zigzag,
 )
 from tests.reckoning import carried_flat, crease_holds, solid, square, sum_of
 from tests.things import DIGITS_40, unchanged, wrong_things
@@ -90,7 +90,8 @@ class PlacedTest(unittest.TestCase):
         sheet = grid(2, 1)
         self.assertEqual(sheet.creases, ((1, 4),))
         self.assertEqual(sheet.beside((1, 4)), (0, 1))
-        self.assertEqual(placed(sheet, [(1, 1)])[1], (plain((1, 0, 0)), plain((1, 0, 1)), plain((1, 1, 1)), plain((1, 1, 0))))
+        upright = ((1, 0, 0), (1, 0, 1), (1, 1, 1), (1, 1, 0))
+        self.assertEqual(placed(sheet, [(1, 1)])[1], tuple(map(plain, upright)))
         self.assertEqual(placed(sheet, [(-1, 1)])[1][1], plain((1, 0, -1)))
         self.assertEqual(placed(sheet, [(1, 2)])[1][1], plain((Fraction(8, 5), 0, Fraction(4, 5))))
         self.assertEqual(placed(sheet, [(-1, 2)])[1][1], plain((Fraction(8, 5), 0, Fraction(-4, 5))))
@@ -224,6 +225,19 @@ class ShownTest(unittest.TestCase):
                 self.assertEqual(shown_numbers(sheet, moved(placing, mirrored)), opposite)
                 self.assertEqual(shown_numbers(sheet, moved(moved(placing, mirrored), turned)), opposite)
 
+    def test_turned_to_each_side(self):
+        # Both squares rise or sink alike from the crease, which lies along each of the axes in turn.
+        sheet = grid(2, 1)
+        up, out = Fraction(4, 5), Fraction(3, 5)
+        rows = [
+            [plain(place) for place in ((-out, 0, up), (0, 0, 0), (0, 1, 0), (-out, 1, up))],
+            [plain(place) for place in ((0, 0, 0), (out, 0, up), (out, 1, up), (0, 1, 0))],
+        ]
+        for a, b, c in permutations(range(3)):
+            even = (a, b, c) in ((0, 1, 2), (1, 2, 0), (2, 0, 1))
+            other = moved(rows, lambda place: (place[a], place[b], place[c]))
+            self.assertEqual(shown_numbers(sheet, other), ((4 if even else -4, 3),))
+
     def test_no_placing(self):
         for wrong in [*wrong_things(), shut_squares()[:1], [shut_squares()[0], None]]:
             with self.assertRaises(NoPlacing, msg=wrong):
@@ -333,8 +347,9 @@ class SpotTest(unittest.TestCase):
         tiny = Fraction(1, BIG)
         for wrong in [
             *wrong_things(), list(good), (0,), (0, point(0, 0), 0), (4, point(0, 0)), (-1, point(0, 0)),
-            (True, point(0, 0)), (False, point(0, 0)), (DIGITS_40, point(0, 0)), ("0", point(0, 0)), (None, point(0, 0)),
-            (0, list(point(0, 0))), (0, ((0, 1), (0, 2))), (0, ((0, 1), (0, True))), (0, None), (0, 0),
+            (True, point(0, 0)), (False, point(0, 0)), (DIGITS_40, point(0, 0)), ("0", point(0, 0)),
+            (None, point(0, 0)), (0, list(point(0, 0))), (0, ((0, 1), (0, 2))), (0, ((0, 1), (0, True))), (0, None),
+            (0, 0),
             (0, point(2, 0)), (0, point(-1, 0)), (0, point(Fraction(1, 2), -tiny)), (0, point(1 + tiny, 1)),
             (0, point(-tiny, Fraction(1, 2))), (1, point(1, 1)), (2, point(0, 1)), ([0], point(0, 0)), {0: point(0, 0)},
         ]:

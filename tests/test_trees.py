@@ -6,7 +6,8 @@ from fourcreases.errors import BadSpaces, NoCrease
 from fourcreases.motions import motions, space_of, still_creases
 from fourcreases.trees import all_tree, is_all_tree, is_never_tree, never_tree
 from tests.makers import (
-    FOLD_CHOICE, fold_net, grid, ladder, rhombs, single, small_fold_net, star, stiff_net, with_fins, worth, zigzag,
+    FOLD_CHOICE, fold_net, grid, ladder, rhombs, single, small_fold_net, star, stiff_net, uneven_nets, with_fins, worth,
+    zigzag,
 )
 from tests.reckoning import as_rows, echelon, lies_in, sum_of, told_space
 from tests.test_motions import half_stiff, large_sheets, small_sheets
@@ -76,9 +77,10 @@ class NeverTreeTest(unittest.TestCase):
                     self.assertLessEqual(depth_of(tree), 12)
 
     def test_by_their_definition(self):
-        sheet = half_stiff()
-        for crease in still_creases(sheet):
-            self.assertTrue(is_never(sheet, crease, never_tree(sheet, crease)))
+        for sheet in (half_stiff(), *uneven_nets()):
+            self.assertNotEqual(still_creases(sheet), [])
+            for crease in still_creases(sheet):
+                self.assertTrue(is_never(sheet, crease, never_tree(sheet, crease)))
 
     def test_many_trees_are_judged_rightly(self):
         sheet = half_stiff()
