@@ -7,6 +7,8 @@ is made of rows no two of which have a number other than 0 at the same crease.
 """
 from fourcreases.ratios import NOUGHT, UNIT, divided, times
 
+ZEROS = ((0, 1), (0, 1), (0, 1), (0, 1))
+
 
 def ends_told(told):
     """The dict from each place that is told to its list of pairs of a told one and its worth there."""

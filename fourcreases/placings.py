@@ -22,11 +22,11 @@ def beyond_crease(sheet, place, turn, number):
     return turn_behind(turn, vector, size_of(vector), number)
 
 
-def plate_turns(sheet, numbers):
-    """The dict from the plates to their turns by a stand; each one behind 0 comes later than a neighbour."""
+def plate_turns(sheet, numbers, start=0):
+    """The dict from the plates to their turns by a stand, the start at rest; each other one behind a neighbour."""
     rows = hinges_of(sheet)
-    turns = {0: REST}
-    waiting = [0]
+    turns = {start: REST}
+    waiting = [start]
     at = 0
     while at < len(waiting):
         number = waiting[at]
@@ -47,9 +47,9 @@ def carried(turn, start, one, other):
     return tuple([plus(ahead, lowest(part, weight)) for ahead, part in zip(start, vector)])
 
 
-def corner_points(sheet, turns):
-    """The dict from the corners to their space points, by the turns of the plates."""
-    first = sheet.plates[0][0]
+def corner_points(sheet, turns, start=0):
+    """The dict from the corners to their space points, by the turns of the plates; the start lies as in the sheet."""
+    first = sheet.plates[start][0]
     x, y = sheet.corners[first]
     points = {first: (x, y, NOUGHT)}
     for number in turns:

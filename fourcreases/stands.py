@@ -1,5 +1,5 @@
 """Numbers of a sheet, and which of them are stands."""
-from fourcreases.errors import NoNumbers
+from fourcreases.errors import NoNumbers, NoStand
 from fourcreases.kinds import is_fraction_row
 from fourcreases.knots import knots_of, lines_met
 
@@ -12,6 +12,12 @@ def are_numbers(sheet, thing):
 def is_stand(sheet, thing):
     """Tell whether something is numbers of a sheet that close at each inner corner."""
     return are_numbers(sheet, thing) and None not in lines_met(knots_of(sheet), thing)
+
+
+def check_stand(sheet, numbers):
+    """Raise NoStand unless these are a stand of a sheet."""
+    if not is_stand(sheet, numbers):
+        raise NoStand()
 
 
 def open_corner(sheet, numbers):

@@ -3,7 +3,7 @@
 A way through a tree is kept as the dict from the corners that it splits to what it tells of
 them: 1 for the first line, 2 for the second one, 3 for both.
 """
-from fourcreases.cases import case_rows
+from fourcreases.cases import ZEROS, case_rows
 from fourcreases.choices import motion_choices, moving_part, places_agreeing
 from fourcreases.corners import far_end
 from fourcreases.errors import BadSpaces
@@ -14,7 +14,6 @@ from fourcreases.spans import Span
 from fourcreases.stands import are_numbers
 
 DEEPEST = 12
-ZEROS = ((0, 1), (0, 1), (0, 1), (0, 1))
 
 
 def knots_by_corner(sheet):

@@ -172,16 +172,13 @@ def net_sheet(spots, ways, depth):
     ]
     tips = {}
     for row, way in edges:
-        height = depth
         for at, (i, j) in enumerate(row):
             spot, lead = spots[j][i], ways[j][i][way]
-            a, b = row[max(at - 1, 0)], row[max(at, 1)]
-            side = (spots[b[1]][b[0]][0] - spots[a[1]][a[0]][0], spots[b[1]][b[0]][1] - spots[a[1]][a[0]][1])
             if at == 0:
-                size = Fraction(depth)
-                tip = step(spot, lead, size)
+                tip = step(spot, lead, Fraction(depth))
             else:
-                tip = meeting(last, side, spot, lead)
+                a = spots[row[at - 1][1]][row[at - 1][0]]
+                tip = meeting(last, (spot[0] - a[0], spot[1] - a[1]), spot, lead)
             last = tip
             tips[i, j, way] = len(corners)
             corners.append(tip)
@@ -292,3 +289,23 @@ def wide_star(size):
         one, other = tips[k], tips[(k + 1) % 4]
         places.append((one[0] + other[0], one[1] + other[1]))
     return Sheet(points(*places), [(0, k + 1, k + 5, (k + 1) % 4 + 1) for k in range(4)])
+
+
+def strip(widths, height=1, tip=None):
+    """Rectangles side by side that go on to the east, and perhaps a triangle so wide behind them."""
+    edges = [Fraction(0)]
+    for wide in widths:
+        edges.append(edges[-1] + Fraction(wide))
+    many = len(edges)
+    corners = points(*[(x, 0) for x in edges], *[(x, height) for x in edges])
+    plates = [(k, k + 1, many + k + 1, many + k) for k in range(many - 1)]
+    if tip is not None:
+        corners.append(point(edges[-1] + Fraction(tip), Fraction(height) / 2))
+        plates.append((many - 1, 2 * many, 2 * many - 1))
+    return Sheet(corners, plates)
+
+
+def chain_net(many):
+    """A row of so many inner corners, m and n nowhere 0, each joined to the next one."""
+    row = [(Fraction(k + 3, k + 4), Fraction(2 * k + 5, 2 * k + 4)) for k in range(many)]
+    return net([row], [2] * (many - 1), [], Fraction(1))

@@ -184,3 +184,67 @@ def crease_holds(sheet, placing, crease, number):
 
 def square(one, other):
     return sum((worth(a) - worth(b)) ** 2 for a, b in zip(one, other))
+
+
+def minus(one, other):
+    return [a - b for a, b in zip(one, other)]
+
+
+def inner(one, other):
+    return sum(a * b for a, b in zip(one, other))
+
+
+def outer(one, other):
+    return [
+        one[1] * other[2] - one[2] * other[1], one[2] * other[0] - one[0] * other[2], one[0] * other[1] - one[1] * other[0],
+    ]
+
+
+def side_forms(points):
+    """For each side of a plate in space the form (a, b, c, d): a x + b y + c z + d is above 0 on its left."""
+    normal = outer(minus(points[1], points[0]), minus(points[2], points[0]))
+    forms = []
+    for k, start in enumerate(points):
+        way = outer(normal, minus(points[(k + 1) % len(points)], start))
+        forms.append([*way, -inner(way, start)])
+    return forms
+
+
+def plane_form(points):
+    normal = outer(minus(points[1], points[0]), minus(points[2], points[0]))
+    return [*normal, -inner(normal, points[0])]
+
+
+def in_plane(form, start, one, other):
+    """A form of space points as one (a, b, c) of the points start + s one + t other: a s + b t + c."""
+    return [inner(form[:3], one), inner(form[:3], other), inner(form[:3], start) + form[3]]
+
+
+def some_above(forms):
+    """Tell whether some (s, t) makes all forms (a, b, c) above 0: t is done away with, then s."""
+    up = [form for form in forms if form[1] > 0]
+    down = [form for form in forms if form[1] < 0]
+    rest = [(a, c) for a, b, c in forms if b == 0]
+    rest += [(a * -e + d * b, c * -e + f * b) for a, b, c in up for d, e, f in down]
+    low = [-c / a for a, c in rest if a > 0]
+    high = [-c / a for a, c in rest if a < 0]
+    return all(c > 0 for a, c in rest if a == 0) and (not low or not high or max(low) < min(high))
+
+
+def have_inner_point(one, other):
+    """Tell whether two plates in space have a point within both, by inequalities in the plane of one."""
+    one, other = [solid(place) for place in one], [solid(place) for place in other]
+    start, u, v = one[0], minus(one[1], one[0]), minus(one[2], one[0])
+    forms = [in_plane(form, start, u, v) for form in side_forms(one) + side_forms(other)]
+    a, b, c = in_plane(plane_form(other), start, u, v)
+    if a == b == 0:
+        return c == 0 and some_above(forms)
+    if a == 0:
+        return some_above([(p, Fraction(0), r - q * c / b) for p, q, r in forms])
+    return some_above([(Fraction(0), q - p * b / a, r - p * c / a) for p, q, r in forms])
+
+
+def is_within(points, place):
+    """Tell whether a space point lies within a plate in space."""
+    points, place = [solid(point) for point in points], [*solid(place), 1]
+    return inner(plane_form(points), place) == 0 and all(inner(form, place) > 0 for form in side_forms(points))

@@ -32,6 +32,19 @@ INTERFACE = {
         "is_placing": "sheet thing", "placed": "sheet numbers", "shown_numbers": "sheet placing",
         "gap2": "sheet numbers one other", "spot_at": "sheet numbers spot",
     },
+    "crossing": {
+        "crossing_plates": "sheet numbers", "crossing_point": "sheet numbers one other",
+        "is_crossing": "sheet numbers one other thing",
+    },
+    "swings": {
+        "swing_gap": "sheet numbers one other", "stays_apart": "sheet numbers one other",
+        "meeting_count": "sheet numbers one other low high", "poly_at": "poly s", "quotient_at": "quotient s",
+    },
+    "pressing": {"flat_placing": "sheet lot", "pressed": "sheet numbers"},
+    "books": {
+        "book_stand": "sheet book", "book_bar": "sheet book", "is_round": "sheet book thing", "books_many": "sheet",
+        "book_number": "sheet number",
+    },
 }
 STAND = ((1, 1), (2, 1), (-1, 1), (2, 1))
 SPOT = (2, point(-3, 4))
@@ -50,13 +63,16 @@ def calls():
     told = {
         "sheet": sheet, "corner": corner, "four": [(0, 1)] * 4, "numbers": numbers, "choice": [1, 2, 1, 2],
         "crease": crease, "stands": [numbers], "spaces": rows, "placing": placing, "one": spot, "other": spot,
-        "spot": spot, "thing": all_tree(sheet),
+        "spot": spot, "thing": all_tree(sheet), "low": (-1, 1), "high": (3, 1), "poly": ((1, 2), (3, 1)), "s": (2, 3),
+        "quotient": (((1, 2),), ((3, 1), (1, 1))), "lot": list(sheet.creases), "book": [0] * len(sheet.creases),
+        "number": 1,
     }
     for name, functions in INTERFACE.items():
         if name not in ("fracs", "plane", "sheets"):
             for function, parameters in functions.items():
                 call = getattr(module("fourcreases." + name), function)
-                yield call, {parameter: told[parameter] for parameter in parameters.split()}
+                some = {**told, **({"one": 2, "other": 0} if name == "crossing" else {})}
+                yield call, {parameter: some[parameter] for parameter in parameters.split()}
 
 
 class InterfaceTest(unittest.TestCase):
@@ -92,7 +108,7 @@ class EqualResultsTest(unittest.TestCase):
             self.assertEqual(one, other, call)
             self.assertEqual(call(**first), one)
             self.assertEqual(repr({name: thing for name, thing in first.items() if name != "sheet"}), before)
-            self.assertEqual(first["sheet"], small_fold_net())
+            self.assertEqual(first.get("sheet", small_fold_net()), small_fold_net())
 
     def test_by_place(self):
         for call, arguments in calls():
