@@ -69,13 +69,17 @@ def is_greatest(part, parts):
     return True
 
 
-def motion_choices(sheet):
-    """The list of the least choices that make the motions of a sheet."""
-    knots = knots_of(sheet)
+def greatest_choices(knots):
+    """The list of the least choices for some knots that make the spaces within no other ones."""
     least = {}
-    for choice in all_choices(len(sheet.inner)):
+    for choice in all_choices(len(knots)):
         least.setdefault(moving_part(knots, choice), choice)
     return [least[part] for part in least if is_greatest(part, least)]
+
+
+def motion_choices(sheet):
+    """The list of the least choices that make the motions of a sheet."""
+    return greatest_choices(knots_of(sheet))
 
 
 def places_agreeing(choices, part):

@@ -61,9 +61,11 @@ def ends_hold(knots, thing, way, deepest, holds):
     return ends_hold(knots, second, way_on(way, corner, 2), deepest - 1, holds)
 
 
-def corners_near(sheet, crease):
-    """The inner corners to which chains of inner corners lead from a crease, the near ones first."""
-    row = [corner for corner in crease if corner in sheet.inner]
+def corners_near(sheet, creases):
+    """The inner corners to which chains of inner corners lead from some creases, the near ones first."""
+    row = []
+    for crease in creases:
+        row.extend([corner for corner in crease if corner in sheet.inner and corner not in row])
     at = 0
     while at < len(row):
         here = row[at]
@@ -75,14 +77,12 @@ def corners_near(sheet, crease):
     return row
 
 
-def still_tree(sheet, knots, corners, way, place):
-    """A never tree for what a way leaves open, split at as many of the corners as needed."""
-    if keeps_still(sheet, knots, way, place):
+def split_tree(corners, way, holds):
+    """A tree behind a way with leaves where something holds, split at as many of the corners as needed."""
+    if holds(way):
         return ("leaf",)
     corner = corners[len(way)]
-    first, second = [
-        still_tree(sheet, knots, corners, way_on(way, corner, pick), place) for pick in (1, 2)
-    ]
+    first, second = [split_tree(corners, way_on(way, corner, pick), holds) for pick in (1, 2)]
     return ("split", corner, first, second)
 
 
@@ -90,7 +90,9 @@ def never_tree(sheet, crease):
     """A never tree for a crease, None if the crease folds."""
     if can_fold(sheet, crease):
         return None
-    return still_tree(sheet, knots_by_corner(sheet), corners_near(sheet, crease), {}, place_of(sheet, crease))
+    place = place_of(sheet, crease)
+    knots = knots_by_corner(sheet)
+    return split_tree(corners_near(sheet, [crease]), {}, lambda way: keeps_still(sheet, knots, way, place))
 
 
 def is_never_tree(sheet, crease, thing):

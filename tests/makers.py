@@ -309,3 +309,62 @@ def chain_net(many):
     """A row of so many inner corners, m and n nowhere 0, each joined to the next one."""
     row = [(Fraction(k + 3, k + 4), Fraction(2 * k + 5, 2 * k + 4)) for k in range(many)]
     return net([row], [2] * (many - 1), [], Fraction(1))
+
+
+def kites(many):
+    """A chain of so many kites with an inner corner each; two of its creases are in one line, the others are not."""
+    corners, plates, at = [], [], {}
+
+    def number(x, y):
+        if (x, y) not in at:
+            at[(x, y)] = len(corners)
+            corners.append(point(x, y))
+        return at[(x, y)]
+
+    tips = [(Fraction(x), Fraction(y)) for x, y in ((6, 0), (3, 4), (Fraction(-7, 3), 0), (3, -4))]
+    middle, sign = (Fraction(0), Fraction(0)), 1
+    for k in range(many):
+        ring = [step(middle, tip, sign) for tip in tips]
+        centre = number(*middle)
+        names = [number(*place) for place in ring]
+        plates += [(centre, names[j], names[(j + 1) % 4]) for j in range(4)]
+        # The next one is this one turned by a half turn about the middle of a side.
+        one, other = (ring[0], ring[1]) if k % 2 == 0 else (ring[2], ring[3])
+        middle = (one[0] + other[0] - middle[0], one[1] + other[1] - middle[1])
+        sign = -sign
+    return Sheet(corners, plates)
+
+
+def triangle_net(*tangents):
+    """Three inner corners of a plate within, by the tangent of half the angle behind it at each of them."""
+    spots = [(Fraction(x), Fraction(y)) for x, y in ((0, 0), (4, 0), (0, 3))]
+    corners, plates, tips = list(spots), [(0, 1, 2)], []
+    for k, tangent in enumerate(tangents):
+        onward, back = [unit(spots[k], spots[(k + side) % 3]) for side in (1, 2)]
+        tips.append((times(back, spin(tangent)), times(times(onward, spin(tangent)), (-1, 0))))
+    ends = {}
+    for k in range(3):
+        one, other = spots[k], spots[(k + 1) % 3]
+        far = step(one, tips[k][1], Fraction(1))
+        near = meeting(far, (other[0] - one[0], other[1] - one[1]), other, tips[(k + 1) % 3][0])
+        ends[k, 1], ends[(k + 1) % 3, 0] = len(corners), len(corners) + 1
+        plates.append(((k + 1) % 3, k, len(corners), len(corners) + 1))
+        corners += [far, near]
+    for k in range(3):
+        one, other = corners[ends[k, 0]], corners[ends[k, 1]]
+        plates.append((k, ends[k, 0], len(corners), ends[k, 1]))
+        corners.append((one[0] + other[0] - spots[k][0], one[1] + other[1] - spots[k][1]))
+    return Sheet([point(x, y) for x, y in corners], plates)
+
+
+def unit(one, other):
+    """The vector of length 1 from one point to another one, whose distance is a whole number."""
+    x, y = other[0] - one[0], other[1] - one[1]
+    size = next(k for k in range(1, 99) if k * k == x * x + y * y)
+    return (x / size, y / size)
+
+
+def triangle_nets():
+    """Such sheets with nine creases: of one all fold, of the others six, three and none."""
+    half = Fraction(1, 2)
+    return [triangle_net(*told) for told in ((half, 2, 2), (1, 1, half), (1, 1, 2), (1, 1, 1))]

@@ -1,17 +1,23 @@
 """What the package does, done again with Python's fractions and by the words of the document alone."""
 from fractions import Fraction
+from functools import lru_cache
 from itertools import product
+from math import isqrt
 
 from tests.makers import pair, worth
 
 
 def corner_mn(sheet, corner):
     """m and n, out of e1 + e3 = m (e2 - e4) and e2 + e4 = n (e1 - e3)."""
+    return points_mn(sheet.corners[corner], *[sheet.corners[sum(crease) - corner] for crease in sheet.around(corner)])
+
+
+@lru_cache(None)
+def points_mn(corner, *others):
     ways = []
-    x, y = map(worth, sheet.corners[corner])
-    for crease in sheet.around(corner):
-        other = sum(crease) - corner
-        p, q = map(worth, sheet.corners[other])
+    x, y = map(worth, corner)
+    for other in others:
+        p, q = map(worth, other)
         square = (p - x) ** 2 + (q - y) ** 2
         size = root(square)
         ways.append(((p - x) / size, (q - y) / size))
@@ -24,13 +30,7 @@ def root(square):
 
 
 def whole_root(number):
-    low, high = 0, number + 1
-    while high - low > 1:
-        middle = (low + high) // 2
-        if middle * middle <= number:
-            low = middle
-        else:
-            high = middle
+    low = isqrt(number)
     assert low * low == number
     return low
 
@@ -65,10 +65,10 @@ def echelon(rows):
     done = []
     wide = len(rows[0]) if rows else 0
     for column in range(wide):
-        found = next((row for row in rows if row[column]), None)
-        if found is None:
+        at = next((k for k, row in enumerate(rows) if row[column]), None)
+        if at is None:
             continue
-        rows.remove(found)
+        found = rows.pop(at)
         found = [x / found[column] for x in found]
         rows = [[x - row[column] * y for x, y in zip(row, found)] if row[column] else row for row in rows]
         done = [[x - row[column] * y for x, y in zip(row, found)] if row[column] else row for row in done]
@@ -196,7 +196,8 @@ def inner(one, other):
 
 def outer(one, other):
     return [
-        one[1] * other[2] - one[2] * other[1], one[2] * other[0] - one[0] * other[2], one[0] * other[1] - one[1] * other[0],
+        one[1] * other[2] - one[2] * other[1], one[2] * other[0] - one[0] * other[2],
+        one[0] * other[1] - one[1] * other[0],
     ]
 
 
@@ -248,3 +249,48 @@ def is_within(points, place):
     """Tell whether a space point lies within a plate in space."""
     points, place = [solid(point) for point in points], [*solid(place), 1]
     return inner(plane_form(points), place) == 0 and all(inner(form, place) > 0 for form in side_forms(points))
+
+
+def whole_rows(rows):
+    """Rows of the package as rows of Python's fractions."""
+    return [[worth(x) for x in row] for row in rows]
+
+
+def mixed(rows, factors, wide):
+    """The sum of multiples of rows of Python's fractions."""
+    return [sum((f * row[k] for f, row in zip(factors, rows)), Fraction(0)) for k in range(wide)]
+
+
+def solutions(rows, wanted, wide):
+    """Some solution of a linear system, row by row, and rows of all with 0 as wanted; None if there is none."""
+    if not rows:
+        return [Fraction(0)] * wide, null_rows([], wide)
+    found = echelon([[*row, want] for row, want in zip(rows, wanted)])
+    some = [Fraction(0)] * wide
+    for row in found:
+        head = next(k for k, x in enumerate(row) if x)
+        if head == wide:
+            return None
+        some[head] = row[wide]
+    return some, null_rows(rows, wide)
+
+
+def fits_in(motion, told, wide):
+    """The stands of a motion that have told numbers at some places: one of them, and rows that may be added."""
+    rows = whole_rows(motion)
+    system = [[row[place] for row in rows] for place in told]
+    found = solutions(system, [worth(told[place]) for place in told], len(rows))
+    if found is None:
+        return None
+    some, free = found
+    return mixed(rows, some, wide), [mixed(rows, factors, wide) for factors in free]
+
+
+def twins(motion, other, places, wide):
+    """Rows of all pairs of stands of two motions with the same numbers at some places."""
+    one, two = whole_rows(motion), whole_rows(other)
+    system = [[row[place] for row in one] + [-row[place] for row in two] for place in places]
+    return [
+        (mixed(one, factors[:len(one)], wide), mixed(two, factors[len(one):], wide))
+        for factors in null_rows(system, len(one) + len(two))
+    ]

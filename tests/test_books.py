@@ -10,7 +10,7 @@ from fourcreases.motions import motions
 from fourcreases.stands import is_stand
 from tests.makers import (
     FOLD_CHOICE, angles_net, chain_net, fold_net, grid, ladder, net, rhombs, single, small_fold_net, star, stiff_net,
-    with_fins, zigzag,
+    triangle_nets, with_fins, zigzag,
 )
 from tests.reckoning import corner_mn, sum_of
 from tests.test_motions import half_stiff, large_sheets, small_sheets
@@ -142,7 +142,7 @@ class BarTest(unittest.TestCase):
 
     def test_books_that_no_corner_bars(self):
         found = {}
-        for sheet in [*small_sheets(), fold_net(), stiff_net(), zigzag(4, 4), half_fold_net(), chain_net(5)]:
+        for sheet in [*small_sheets(), *triangle_nets(), fold_net(), stiff_net(), half_fold_net(), chain_net(5)]:
             random = Random(6)
             for _ in range(25):
                 kind = self.judge(sheet, book_by_corners(sheet, random))
@@ -185,7 +185,7 @@ class BarTest(unittest.TestCase):
 
 class RoundTest(unittest.TestCase):
     def rounds(self):
-        for sheet in (half_fold_net(), stiff_net(), half_stiff()):
+        for sheet in (half_fold_net(), stiff_net(), half_stiff(), *triangle_nets()):
             random = Random(7)
             for _ in range(8):
                 book = book_by_corners(sheet, random)
@@ -215,7 +215,7 @@ class RoundTest(unittest.TestCase):
                     wanted = goes_round(sheet, book, row)
                     self.assertIs(is_round(sheet, book, row), wanted)
                     kinds.add((many, wanted))
-        self.assertLessEqual({(4, True), (6, True), (4, False), (3, False), (0, False), (1, False)}, kinds)
+        self.assertLessEqual({(3, True), (4, True), (6, True), (4, False), (3, False), (0, False), (1, False)}, kinds)
 
     def test_wrong_rows(self):
         sheet, book, row = next(self.rounds())

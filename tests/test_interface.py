@@ -4,10 +4,12 @@ import inspect
 import unittest
 
 from fourcreases import errors
-from tests.makers import point, small_fold_net, star
+from tests.makers import small_fold_net, star
 from fourcreases.motions import motions
 from fourcreases.trees import all_tree
 
+STAND = ((1, 1), (2, 1), (-1, 1), (2, 1))
+FLAT = ((0, 1),) * 4
 INTERFACE = {
     "fracs": {
         "frac_of": "top bottom", "frac_add": "one other", "frac_sub": "one other", "frac_mul": "one other",
@@ -45,9 +47,29 @@ INTERFACE = {
         "book_stand": "sheet book", "book_bar": "sheet book", "is_round": "sheet book thing", "books_many": "sheet",
         "book_number": "sheet number",
     },
+    "seen": {
+        "fitting": "sheet told", "sure_number": "sheet told crease", "two_fitting": "sheet told crease",
+        "unfit_tree": "sheet told", "is_unfit_tree": "sheet told thing",
+    },
+    "sights": {"settles": "sheet lot", "blind_pair": "sheet lot", "least_sights": "sheet"},
+    "drives": {"drive_of": "sheet crease other", "undriven": "sheet crease other"},
+    "locking": {
+        "locks": "sheet lot crease", "slip": "sheet lot crease", "least_locks": "sheet crease",
+        "cheapest_lock": "sheet prices crease",
+    },
+    "ways": {
+        "way": "sheet one other held", "is_way": "sheet one other held thing", "parting": "sheet one other held",
+        "is_parting": "sheet one other held thing",
+    },
 }
-STAND = ((1, 1), (2, 1), (-1, 1), (2, 1))
-SPOT = (2, point(-3, 4))
+# The arguments that are called so, where they are not spots and the sheet not one with twelve creases.
+OTHERWISE = {
+    "crossing": {"one": 2, "other": 0},
+    "drives": {"sheet": star(), "crease": (0, 1), "other": (0, 3)},
+    "ways": {"one": STAND, "other": FLAT, "sheet": star()},
+    "locking": {"sheet": star(), "lot": [(0, 1)], "crease": (0, 3)},
+    "sights": {"sheet": star(), "lot": [(0, 1)]},
+}
 
 
 def calls():
@@ -65,13 +87,13 @@ def calls():
         "crease": crease, "stands": [numbers], "spaces": rows, "placing": placing, "one": spot, "other": spot,
         "spot": spot, "thing": all_tree(sheet), "low": (-1, 1), "high": (3, 1), "poly": ((1, 2), (3, 1)), "s": (2, 3),
         "quotient": (((1, 2),), ((3, 1), (1, 1))), "lot": list(sheet.creases), "book": [0] * len(sheet.creases),
-        "number": 1,
+        "number": 1, "told": {crease: (1, 3)}, "prices": {glued: 2 for glued in star().creases}, "held": {},
     }
     for name, functions in INTERFACE.items():
         if name not in ("fracs", "plane", "sheets"):
             for function, parameters in functions.items():
                 call = getattr(module("fourcreases." + name), function)
-                some = {**told, **({"one": 2, "other": 0} if name == "crossing" else {})}
+                some = {**told, **OTHERWISE.get(name, {})}
                 yield call, {parameter: some[parameter] for parameter in parameters.split()}
 
 
@@ -108,7 +130,7 @@ class EqualResultsTest(unittest.TestCase):
             self.assertEqual(one, other, call)
             self.assertEqual(call(**first), one)
             self.assertEqual(repr({name: thing for name, thing in first.items() if name != "sheet"}), before)
-            self.assertEqual(first.get("sheet", small_fold_net()), small_fold_net())
+            self.assertIn(first.get("sheet", star()), (small_fold_net(), star()))
 
     def test_by_place(self):
         for call, arguments in calls():
