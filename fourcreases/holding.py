@@ -21,7 +21,8 @@ def held_places(sheet, held):
         if not is_crease(sheet, crease) or not is_fraction(held[crease]) or held[crease][0] <= 0:
             raise BadHeld()
         places[place_of(sheet, crease)] = held[crease]
-    return places
+    # Equal dicts may have their keys in unlike orders; what comes of them must not.
+    return {place: places[place] for place in sorted(places)}
 
 
 def keeps(numbers, places):

@@ -9,7 +9,7 @@ from fourcreases.kinds import is_row
 from fourcreases.knots import knots_of, lines_met, place_of
 from fourcreases.laying import joining
 from fourcreases.ratios import UNIT, divided, times
-from fourcreases.stands import are_numbers, is_stand
+from fourcreases.stands import are_numbers, check_stand
 
 
 def space_of(sheet, choice):
@@ -57,8 +57,7 @@ def hands(sheet):
 
 def motions_with(sheet, numbers):
     """The ascending list of the places of the motions in which a stand lies."""
-    if not is_stand(sheet, numbers):
-        raise NoStand()
+    check_stand(sheet, numbers)
     return places_agreeing(motion_choices(sheet), lines_met(knots_of(sheet), numbers))
 
 

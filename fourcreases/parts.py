@@ -48,7 +48,7 @@ def part_of(knots):
     for own, _ in knots:
         for place in own:
             places[place] = True
-    # So many creases as none: the rows of the knots alone.
+    # Without any creases beside theirs these are the rows of the knots alone.
     return Part(list(places), [case_rows(0, told_by(knots, choice)) for choice in greatest_choices(knots)])
 
 

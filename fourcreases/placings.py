@@ -1,7 +1,9 @@
 """Where the plates of a stand lie in space."""
+from fourcreases.errors import NoSpot
 from fourcreases.flat import arrow, lines_of, side_of, size_of, spread
 from fourcreases.kinds import is_integer, is_point, is_tuple_of
 from fourcreases.ratios import NOUGHT, lowest, plus
+from fourcreases.stands import check_stand
 from fourcreases.turning import REST, turn_behind, turned
 
 
@@ -73,6 +75,14 @@ def is_spot(sheet, thing):
         if side_of(line, spot) < 0:
             return False
     return True
+
+
+def check_spots(sheet, numbers, spots):
+    """Raise NoStand or NoSpot unless these are a stand and a list of spots of a sheet."""
+    check_stand(sheet, numbers)
+    for spot in spots:
+        if not is_spot(sheet, spot):
+            raise NoSpot()
 
 
 def spot_points(sheet, numbers, spots):

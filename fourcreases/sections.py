@@ -36,7 +36,7 @@ def between(one, other, here, there):
 
 def level_spots(points):
     """The spots at which a plate meets the plane of height 0: none, the ends of a line, or its corners."""
-    signs = [height[0] for _, _, height in points]
+    signs = [point[2][0] for point in points]
     if min(signs) * max(signs) >= 0 and (min(signs) != 0 or max(signs) != 0):
         return []
     solid, weight = whole_points(points)

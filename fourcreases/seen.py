@@ -18,7 +18,8 @@ def told_places(sheet, told):
         if not is_crease(sheet, crease) or not is_fraction(told[crease]):
             raise BadTold()
         places[place_of(sheet, crease)] = told[crease]
-    return places
+    # Equal dicts may have their keys in unlike orders; what comes of them must not.
+    return {place: places[place] for place in sorted(places)}
 
 
 def fitting(sheet, told):

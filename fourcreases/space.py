@@ -1,10 +1,10 @@
 """Sheets in space: placings of stands, what they show, and distances of spots."""
-from fourcreases.errors import NoPlacing, NoSpot, NoStand, Shut
+from fourcreases.errors import NoPlacing, Shut
 from fourcreases.kinds import is_row, is_space_point
-from fourcreases.placings import corner_points, is_spot, plate_turns, spot_points
+from fourcreases.placings import check_spots, corner_points, plate_turns, spot_points
 from fourcreases.ratios import lowest
 from fourcreases.showing import are_congruent, shown_number, square_gap, whole_points
-from fourcreases.stands import is_stand
+from fourcreases.stands import check_stand
 
 
 def is_placed_plate(plate, thing):
@@ -43,8 +43,7 @@ def is_placing(sheet, thing):
 
 def placed(sheet, numbers):
     """The placing of a stand."""
-    if not is_stand(sheet, numbers):
-        raise NoStand()
+    check_stand(sheet, numbers)
     points = corner_points(sheet, plate_turns(sheet, numbers))
     return tuple([tuple([points[corner] for corner in plate]) for plate in sheet.plates])
 
@@ -65,18 +64,12 @@ def shown_numbers(sheet, placing):
 
 def gap2(sheet, numbers, one, other):
     """The square of the distance of two spots in the placing of a stand."""
-    if not is_stand(sheet, numbers):
-        raise NoStand()
-    if not is_spot(sheet, one) or not is_spot(sheet, other):
-        raise NoSpot()
+    check_spots(sheet, numbers, [one, other])
     (here, there), weight = whole_points(spot_points(sheet, numbers, [one, other]))
     return lowest(square_gap(here, there), weight * weight)
 
 
 def spot_at(sheet, numbers, spot):
     """The space point of a spot in the placing of a stand."""
-    if not is_stand(sheet, numbers):
-        raise NoStand()
-    if not is_spot(sheet, spot):
-        raise NoSpot()
+    check_spots(sheet, numbers, [spot])
     return spot_points(sheet, numbers, [spot])[0]

@@ -1,21 +1,13 @@
 """Swings of stands: distances of spots as all numbers are multiplied by s."""
-from fourcreases.errors import BadNumber, NoFraction, NoPolynomial, NoSpot
+from fourcreases.errors import BadNumber, NoFraction, NoPolynomial
 from fourcreases.factors import shared_factor
 from fourcreases.fracs import frac_sign
 from fourcreases.kinds import is_fraction, is_tuple_of
-from fourcreases.placings import is_spot
+from fourcreases.placings import check_spots
 from fourcreases.polys import exact_quotient, is_polynomial, sum_of_products, value_of, whole_poly
 from fourcreases.ratios import NOUGHT, UNIT, divided, lowest
 from fourcreases.roots import count_by_squares
-from fourcreases.stands import check_stand
 from fourcreases.swinging import swing_of
-
-
-def check_spots(sheet, numbers, one, other):
-    """Raise NoStand or NoSpot unless these are a stand and two spots of a sheet."""
-    check_stand(sheet, numbers)
-    if not is_spot(sheet, one) or not is_spot(sheet, other):
-        raise NoSpot()
 
 
 def is_quotient(thing):
@@ -38,7 +30,7 @@ def in_squares(poly, weight):
 
 def swing_gap(sheet, numbers, one, other):
     """The quotient whose value at s is the square of the distance of two spots if all numbers are s times as great."""
-    check_spots(sheet, numbers, one, other)
+    check_spots(sheet, numbers, [one, other])
     (x, y, z), turns, scale = swing_of(sheet, numbers, one, other)
     top = sum_of_products([(x, x), (y, y), ([0, *z], z)])
     bottom = [1]
@@ -61,7 +53,7 @@ def stays_apart(sheet, numbers, one, other):
 
 def meeting_count(sheet, numbers, one, other, low, high):
     """The number of the real s above low and at most high for which two spots meet, None if they always do."""
-    check_spots(sheet, numbers, one, other)
+    check_spots(sheet, numbers, [one, other])
     if not is_fraction(low):
         raise BadNumber("low")
     if not is_fraction(high) or frac_sign(high, low) != 1:

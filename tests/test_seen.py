@@ -108,6 +108,15 @@ class FittingTest(unittest.TestCase):
         self.assertIs(is_unfit_tree(sheet, told, tree), True)
         self.assertTrue(is_unfit(sheet, told, tree))
 
+    def test_the_order_of_keys_does_not_matter(self):
+        for sheet, told in cases(4):
+            turned = {crease: told[crease] for crease in list(told)[::-1]}
+            self.assertEqual(fitting(sheet, turned), fitting(sheet, told))
+            self.assertEqual(unfit_tree(sheet, turned), unfit_tree(sheet, told))
+            if fitting(sheet, told) is not None and sheet.creases:
+                crease = sheet.creases[-1]
+                self.assertEqual(two_fitting(sheet, turned, crease), two_fitting(sheet, told, crease))
+
     def test_told_ones(self):
         self.assertEqual(fitting(star(), {(0, 1): (4, 1), (0, 2): (-2, 1)}), ((4, 1), (-2, 1), (4, 1), (2, 1)))
         self.assertEqual(fitting(star(), {(0, 3): (1, 3), (0, 1): (-1, 3)}), ((-1, 3), (-2, 3), (1, 3), (-2, 3)))

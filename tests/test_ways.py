@@ -215,6 +215,12 @@ class WayTest(unittest.TestCase):
             self.assertEqual(thing[0], "signs")
             self.check_parting(sheet, one, other, held, thing)
 
+    def test_the_order_of_keys_does_not_matter(self):
+        for sheet, one, other, held in some_cases(6):
+            turned = {crease: held[crease] for crease in list(held)[::-1]}
+            self.assertEqual(way(sheet, one, other, turned), way(sheet, one, other, held))
+            self.assertEqual(parting(sheet, one, other, turned), parting(sheet, one, other, held))
+
     def test_lists_are_new(self):
         first = way(star(), ONE, OTHER, {})
         first.append(7)
