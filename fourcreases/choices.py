@@ -1,17 +1,12 @@
 """Choices of a line at each inner corner, and the spaces of stands that they make."""
 from fourcreases.cases import case_rows, ends_told, moving_groups, whole_row
-from fourcreases.kinds import is_integer, is_row
+from fourcreases.kinds import is_pick_row
 from fourcreases.knots import knots_of
 
 
 def is_choice(sheet, thing):
     """Tell whether something is a choice of a sheet."""
-    if not is_row(thing) or len(thing) != len(sheet.inner):
-        return False
-    for pick in thing:
-        if not is_integer(pick) or pick not in (1, 2):
-            return False
-    return True
+    return is_pick_row(thing, len(sheet.inner))
 
 
 def all_choices(many):
@@ -32,9 +27,9 @@ def choice_rows(sheet, knots, choice):
     return case_rows(len(sheet.creases), told_by(knots, choice))
 
 
-def whole_rows(sheet, rows):
-    """The tuple of reduced rows that are dicts, each one as numbers of a sheet."""
-    return tuple([whole_row(len(sheet.creases), row) for row in rows])
+def whole_rows(many, rows):
+    """The tuple of reduced rows that are dicts, each one as a tuple of so many numbers."""
+    return tuple([whole_row(many, row) for row in rows])
 
 
 def moving_part(knots, choice):
@@ -75,6 +70,11 @@ def greatest_choices(knots):
     for choice in all_choices(len(knots)):
         least.setdefault(moving_part(knots, choice), choice)
     return [least[part] for part in least if is_greatest(part, least)]
+
+
+def motions_of(many, knots):
+    """The list of the motions of so many creases that some knots tie together."""
+    return [whole_rows(many, case_rows(many, told_by(knots, choice))) for choice in greatest_choices(knots)]
 
 
 def motion_choices(sheet):

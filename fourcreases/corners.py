@@ -23,22 +23,47 @@ def half_tangent(one, other):
     return lowest(cross(one, other), size_of(one) * size_of(other) + dot(one, other))
 
 
+def tangents_between(arrows):
+    """The tangents of half the angle from the first of four vectors to the second one, and to the third from there."""
+    first, second, third, _ = arrows
+    return (half_tangent(first, second), half_tangent(second, third))
+
+
 def corner_tangents(sheet, corner):
     """The tangents of half the angle from the first crease to the second one, and to the third one from there."""
-    first, second, third, _ = arrows_at(sheet, corner)
-    return (half_tangent(first, second), half_tangent(second, third))
+    return tangents_between(arrows_at(sheet, corner))
+
+
+def told_fractions(tangents):
+    """The pair (m, n) of a corner with such tangents."""
+    (a, b), (c, d) = tangents
+    return (lowest(b * d - a * c, b * d + a * c), lowest(c * b - a * d, c * b + a * d))
 
 
 def corner_fractions(sheet, corner):
     """The pair (m, n) of an inner corner."""
-    (a, b), (c, d) = corner_tangents(sheet, corner)
-    return (lowest(b * d - a * c, b * d + a * c), lowest(c * b - a * d, c * b + a * d))
+    return told_fractions(corner_tangents(sheet, corner))
+
+
+def first_line(m):
+    """The four on the first line with 1 at the first crease."""
+    return (UNIT, opposite(m), UNIT, m)
+
+
+def second_line(n):
+    """The four on the second line with 1 at the second crease."""
+    return (opposite(n), UNIT, n, UNIT)
+
+
+def lines_with(tangents):
+    """Such fours on the two lines of a corner with such tangents."""
+    m, n = told_fractions(tangents)
+    return (first_line(m), second_line(n))
 
 
 def corner_lines(sheet, corner):
-    """The four on the first line with 1 at the first crease, and on the second line with 1 at the second one."""
-    m, n = corner_fractions(sheet, corner)
-    return ((UNIT, opposite(m), UNIT, m), (opposite(n), UNIT, n, UNIT))
+    """Such fours on the two lines of an inner corner."""
+    return lines_with(corner_tangents(sheet, corner))
 
 
 def line_met(lines, four):

@@ -48,3 +48,13 @@ def is_point(thing):
 def is_space_point(thing):
     """Tell whether something is a point of space."""
     return is_tuple_of(thing, 3) and are_fractions(thing)
+
+
+def is_pick_row(thing, many):
+    """Tell whether something is a row of so many integers 1 and 2."""
+    if not is_row(thing) or len(thing) != many:
+        return False
+    for pick in thing:
+        if not is_integer(pick) or pick not in (1, 2):
+            return False
+    return True

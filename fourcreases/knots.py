@@ -12,12 +12,15 @@ def place_of(sheet, crease):
     return sheet.creases.index(crease)
 
 
+def knots_among(sheet, corners, creases):
+    """The list of the knots of some inner corners, their places told among some creases."""
+    places = {crease: place for place, crease in enumerate(creases)}
+    return [([places[crease] for crease in sheet.around(corner)], corner_lines(sheet, corner)) for corner in corners]
+
+
 def knots_of(sheet):
     """The list of the knots of a sheet."""
-    places = {crease: place for place, crease in enumerate(sheet.creases)}
-    return [
-        ([places[crease] for crease in sheet.around(corner)], corner_lines(sheet, corner)) for corner in sheet.inner
-    ]
+    return knots_among(sheet, sheet.inner, sheet.creases)
 
 
 def lines_met(knots, numbers):

@@ -1,7 +1,7 @@
 """Motions: the greatest linear spaces of stands of a sheet, and what they tell of its creases."""
 from fourcreases.cases import whole_row
 from fourcreases.choices import (
-    agrees, all_choices, choice_rows, is_choice, motion_choices, places_agreeing, whole_rows,
+    agrees, all_choices, choice_rows, is_choice, motion_choices, motions_of, places_agreeing, whole_rows,
 )
 from fourcreases.corners import corner_fractions, corner_lines
 from fourcreases.errors import BadChoice, NoStand
@@ -16,7 +16,7 @@ def space_of(sheet, choice):
     """The reduced rows of the stands that are on the chosen lines."""
     if not is_choice(sheet, choice):
         raise BadChoice()
-    return whole_rows(sheet, choice_rows(sheet, knots_of(sheet), choice))
+    return whole_rows(len(sheet.creases), choice_rows(sheet, knots_of(sheet), choice))
 
 
 def round_product(plate, worths):
@@ -46,8 +46,7 @@ def bar_of(sheet, choice):
 
 def motions(sheet):
     """The list of all motions, in the order of the least choices that make them."""
-    knots = knots_of(sheet)
-    return [whole_rows(sheet, choice_rows(sheet, knots, choice)) for choice in motion_choices(sheet)]
+    return motions_of(len(sheet.creases), knots_of(sheet))
 
 
 def hands(sheet):

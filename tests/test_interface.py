@@ -4,9 +4,11 @@ import inspect
 import unittest
 
 from fourcreases import errors
-from tests.makers import small_fold_net, star
+from fourcreases.bands import Patch
 from fourcreases.motions import motions
 from fourcreases.trees import all_tree
+from tests.makers import grid, small_fold_net, star
+from tests.patches import counted
 
 STAND = ((1, 1), (2, 1), (-1, 1), (2, 1))
 FLAT = ((0, 1),) * 4
@@ -61,7 +63,23 @@ INTERFACE = {
         "way": "sheet one other held", "is_way": "sheet one other held thing", "parting": "sheet one other held",
         "is_parting": "sheet one other held thing",
     },
+    "bands": {
+        "Patch": "sheet left right", "band_sheet": "patch copies", "band_many": "patch copies modulus",
+        "band_end": "patch", "bands_alike": "one other",
+    },
+    "tables": {
+        "fits_together": "table", "fulfils": "table wish", "grown": "first_row first_column wish",
+        "grown_bar": "first_row first_column wish",
+    },
+    "lengths": {
+        "are_lengths": "table thing", "lengths_for": "table", "length_bar": "table", "is_length_bar": "table thing",
+    },
+    "nets": {"sheet_of": "table across up depth"},
 }
+METHODS = {
+    "sheets": {"Sheet": {"around": "corner", "beside": "crease", "__eq__": "other"}},
+}
+PAIR = ((1, 2), (2, 3))
 # The arguments that are called so, where they are not spots and the sheet not one with twelve creases.
 OTHERWISE = {
     "crossing": {"one": 2, "other": 0},
@@ -69,6 +87,9 @@ OTHERWISE = {
     "ways": {"one": STAND, "other": FLAT, "sheet": star()},
     "locking": {"sheet": star(), "lot": [(0, 1)], "crease": (0, 3)},
     "sights": {"sheet": star(), "lot": [(0, 1)]},
+    "bands": {"one": counted("wide"), "other": counted("two"), "copies": 2, "sheet": grid(1, 2)},
+    "lengths": {"thing": ([[(1, 1)]] * 2, [[(1, 1)] * 2])},
+    "nets": {"table": [[((1, 1), (1, 1))] * 2] * 2},
 }
 
 
@@ -87,6 +108,9 @@ def calls():
         "crease": crease, "stands": [numbers], "spaces": rows, "placing": placing, "one": spot, "other": spot,
         "spot": spot, "thing": all_tree(sheet), "low": (-1, 1), "high": (3, 1), "poly": ((1, 2), (3, 1)), "s": (2, 3),
         "quotient": (((1, 2),), ((3, 1), (1, 1))), "lot": list(sheet.creases), "book": [0] * len(sheet.creases),
+        "patch": counted("wide"), "left": [0, 2, 4], "right": (1, 3, 5), "copies": 3, "modulus": 7,
+        "table": [[PAIR] * 2] * 2, "wish": [[1, 1]] * 2, "first_row": [PAIR] * 2, "first_column": [PAIR] * 2,
+        "across": [[(1, 1)]] * 2, "up": [[(1, 1)] * 2], "depth": (1, 2),
         "number": 1, "told": {crease: (1, 3)}, "prices": {glued: 2 for glued in star().creases}, "held": {},
     }
     for name, functions in INTERFACE.items():
@@ -106,11 +130,15 @@ class InterfaceTest(unittest.TestCase):
                 self.assertEqual(list(inspect.signature(found).parameters), parameters.split(), function)
                 self.assertEqual(found.__module__, "fourcreases." + name)
 
-    def test_methods_of_sheet(self):
-        sheet = importlib.import_module("fourcreases.sheets").Sheet
-        for name, parameters in (("around", ["self", "corner"]), ("beside", ["self", "crease"])):
-            self.assertEqual(list(inspect.signature(vars(sheet)[name]).parameters), parameters)
-        self.assertIn("__eq__", vars(sheet))
+    def test_methods(self):
+        for name, classes in METHODS.items():
+            for told, methods in classes.items():
+                found = getattr(importlib.import_module("fourcreases." + name), told)
+                for method, parameters in methods.items():
+                    self.assertEqual(
+                        list(inspect.signature(vars(found)[method]).parameters), ["self", *parameters.split()], method
+                    )
+        self.assertEqual(set(vars(counted("row"))) & {"sheet", "left", "right"}, {"sheet", "left", "right"})
         self.assertEqual(
             set(vars(star())) & {"corners", "plates", "creases", "rim", "inner", "inside"},
             {"corners", "plates", "creases", "rim", "inner", "inside"},
@@ -122,19 +150,24 @@ class InterfaceTest(unittest.TestCase):
                 self.assertEqual(found.__module__, "fourcreases.errors", name)
 
 
+def told(result):
+    """A result that can be compared; patches are not."""
+    return (result.sheet, result.left, result.right) if isinstance(result, Patch) else result
+
+
 class EqualResultsTest(unittest.TestCase):
     def test_by_name_twice(self):
-        for (call, first), (_, second) in zip(calls(), calls()):
+        for (call, first), (_, second), (_, fresh) in zip(calls(), calls(), calls()):
             before = repr({name: thing for name, thing in first.items() if name != "sheet"})
-            one, other = call(**first), call(**second)
+            one, other = told(call(**first)), told(call(**second))
             self.assertEqual(one, other, call)
-            self.assertEqual(call(**first), one)
+            self.assertEqual(told(call(**first)), one)
             self.assertEqual(repr({name: thing for name, thing in first.items() if name != "sheet"}), before)
-            self.assertIn(first.get("sheet", star()), (small_fold_net(), star()))
+            self.assertEqual(first.get("sheet"), fresh.get("sheet"))
 
     def test_by_place(self):
         for call, arguments in calls():
-            self.assertEqual(call(*arguments.values()), call(**arguments))
+            self.assertEqual(told(call(*arguments.values())), told(call(**arguments)))
 
 
 if __name__ == "__main__":
