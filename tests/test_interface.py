@@ -6,8 +6,10 @@ import unittest
 from fourcreases import errors
 from fourcreases.bands import Patch
 from fourcreases.motions import motions
+from fourcreases.sheets import Sheet
+from fourcreases.texts import sheet_text
 from fourcreases.trees import all_tree
-from tests.makers import grid, small_fold_net, star
+from tests.makers import grid, points, small_fold_net, star
 from tests.patches import counted
 
 STAND = ((1, 1), (2, 1), (-1, 1), (2, 1))
@@ -75,9 +77,23 @@ INTERFACE = {
         "are_lengths": "table thing", "lengths_for": "table", "length_bar": "table", "is_length_bar": "table thing",
     },
     "nets": {"sheet_of": "table across up depth"},
+    "slits": {"slit_motions": "sheet slit", "slit_folds": "sheet slit crease", "least_slit": "sheet crease"},
+    "joining": {"joined": "one other", "cut_numbers": "whole part numbers"},
+    "texts": {
+        "frac_text": "one", "read_frac": "text", "sheet_text": "sheet", "read_sheet": "text", "numbers_text": "numbers",
+        "read_numbers": "text", "tree_text": "tree", "read_tree": "text",
+    },
+    "bench": {"Bench": ""},
+    "folders": {"first_wrong": "sheet folder tries", "first_leap": "sheet folder tries"},
 }
 METHODS = {
     "sheets": {"Sheet": {"around": "corner", "beside": "crease", "__eq__": "other"}},
+    "bench": {
+        "Bench": {
+            "put": "points", "take": "number", "laid": "", "undo": "", "made": "", "folds": "one other",
+            "moves": "points", "trying": "deed",
+        },
+    },
 }
 PAIR = ((1, 2), (2, 3))
 # The arguments that are called so, where they are not spots and the sheet not one with twelve creases.
@@ -90,7 +106,14 @@ OTHERWISE = {
     "bands": {"one": counted("wide"), "other": counted("two"), "copies": 2, "sheet": grid(1, 2)},
     "lengths": {"thing": ([[(1, 1)]] * 2, [[(1, 1)] * 2])},
     "nets": {"table": [[((1, 1), (1, 1))] * 2] * 2},
+    "slits": {"sheet": grid(2, 2), "slit": [1, 4], "crease": (4, 7)},
+    "joining": {
+        "one": grid(1, 1), "other": Sheet(points((0, 0), (1, 0), (1, -1), (0, -1)), [(3, 2, 1, 0)]),
+        "whole": star(), "part": star(), "numbers": FLAT,
+    },
+    "texts": {"one": (1, 2)},
 }
+TEXTS = {"read_frac": "1/2", "read_sheet": sheet_text(star()), "read_numbers": "1/2 3", "read_tree": "(0 . 1)"}
 
 
 def calls():
@@ -110,14 +133,15 @@ def calls():
         "quotient": (((1, 2),), ((3, 1), (1, 1))), "lot": list(sheet.creases), "book": [0] * len(sheet.creases),
         "patch": counted("wide"), "left": [0, 2, 4], "right": (1, 3, 5), "copies": 3, "modulus": 7,
         "table": [[PAIR] * 2] * 2, "wish": [[1, 1]] * 2, "first_row": [PAIR] * 2, "first_column": [PAIR] * 2,
-        "across": [[(1, 1)]] * 2, "up": [[(1, 1)] * 2], "depth": (1, 2),
+        "across": [[(1, 1)]] * 2, "up": [[(1, 1)] * 2], "depth": (1, 2), "tree": all_tree(sheet),
+        "folder": lambda one: [(0, 1)] * len(sheet.creases), "tries": [(1, 2), (3, 1)],
         "number": 1, "told": {crease: (1, 3)}, "prices": {glued: 2 for glued in star().creases}, "held": {},
     }
     for name, functions in INTERFACE.items():
-        if name not in ("fracs", "plane", "sheets"):
+        if name not in ("fracs", "plane", "sheets", "bench"):
             for function, parameters in functions.items():
                 call = getattr(module("fourcreases." + name), function)
-                some = {**told, **OTHERWISE.get(name, {})}
+                some = {**told, **OTHERWISE.get(name, {}), "text": TEXTS.get(function)}
                 yield call, {parameter: some[parameter] for parameter in parameters.split()}
 
 
