@@ -10,10 +10,10 @@ ENOUGH = 100
 class Search:
     """The search for numbers from 1 on at which all sums are from 1 on.
 
-    What a number or a sum has beyond 1 is its excess. Some excesses are free; each other one is told
-    by a line: what it is, times the weight, if all free ones are 0, and behind it what comes of each
-    free one. The numbers are 0 and on, the sums follow them. Of several that could be taken the first
-    one is, so no line-up comes again.
+    What a number or a sum has beyond 1 is its excess; those of the numbers are counted ahead of those
+    of the sums. Some excesses are free; each other one is told by a line: what it is, times the
+    weight, if all free ones are 0, and behind it what comes of each free one. Where several could be
+    exchanged, the first one is taken: so no line-up comes again, and the search has an end.
     """
 
     def __init__(self, rows):

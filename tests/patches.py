@@ -4,7 +4,7 @@ from math import atan2, pi, tan
 
 from fourcreases.bands import Patch
 from fourcreases.sheets import Sheet
-from tests.makers import grid, meeting, net_ways, outer, pair, point, spin, step, times, with_fins, zigzag
+from tests.makers import grid, meeting, net_ways, outer, point, spin, step, times, zigzag
 
 
 def near_spin(angle):

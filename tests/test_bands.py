@@ -7,8 +7,8 @@ from fourcreases.bands import Patch, band_end, band_many, band_sheet, bands_alik
 from fourcreases.errors import BadCorners, BadNumber, BadPlates, BadSeam, TooMany
 from fourcreases.motions import bar_of
 from fourcreases.sheets import Sheet
-from tests.makers import grid, point, points, single, star, with_fins, zigzag
-from tests.patches import COUNTED, column_patch, counted, diamond_patch, strip_patch
+from tests.makers import grid, point, points, single, with_fins, zigzag
+from tests.patches import COUNTED, column_patch, counted, diamond_patch
 from tests.things import DIGITS_40, wrong_things
 
 MOST = 10 ** 12
@@ -252,6 +252,15 @@ class ManyTest(unittest.TestCase):
             patch = counted(name)
             self.assertEqual([band_many(patch, copies, MOST) for copies in range(1, 7)], counts, name)
             self.assertEqual([band_many(patch, copies, 3) for copies in range(1, 7)], [many % 3 for many in counts])
+
+    def test_other_orders_of_plates(self):
+        for name, (_, counts) in COUNTED.items():
+            told = counted(name)
+            for start in range(0, len(told.sheet.plates), 2):
+                plates = told.sheet.plates[start:] + told.sheet.plates[:start]
+                plates = [plate[start % 3:] + plate[:start % 3] for plate in plates[::-1]]
+                patch = Patch(Sheet(told.sheet.corners, plates), told.left, told.right)
+                self.assertEqual([band_many(patch, k + 1, MOST) for k in range(6)], counts, name)
 
     def test_very_many_copies(self):
         for copies in (7, 1000, 12345678901234567890, 10 ** 30 - 1, 10 ** 30):

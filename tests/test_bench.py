@@ -83,6 +83,8 @@ class PutTest(unittest.TestCase):
         ]
         for thing in things:
             self.assertFalse(is_plate(thing))
+            self.assertRaises(NoPlate, Bench().put, thing)
+            self.assertRaises(NoPlate, Bench().moves, thing)
             self.assertRaises(NoPlate, bench.put, thing)
             self.assertRaises(NoPlate, bench.moves, thing)
         self.assertEqual(bench.laid(), {0: square(0, 0)})

@@ -201,6 +201,11 @@ class JudgesTest(unittest.TestCase):
                     ]
                     self.assertIs(is_length_bar(told, thing), False)
 
+    def test_short_vectors_on_squares(self):
+        for x, y in product((-1, 0, 1), repeat=2):
+            self.assertIs(is_length_bar(SQUARES, [[((x, 1), (y, 1))]]), False)
+            self.assertIs(is_length_bar([[ONE] * 3] * 2, [[((x, 1), (y, 1)), ((y, 1), (x, 1))]]), False)
+
     def test_no_tables(self):
         unfit = [[OTHER, OTHER], [OTHER, ONE]]
         for thing in [*wrong_tables(), unfit]:

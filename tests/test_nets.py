@@ -151,6 +151,16 @@ class PlacesTest(unittest.TestCase):
         named = sheet_of(depth=(1, 2), up=[[(3, 1)] * 2], across=[[(2, 1)]] * 2, table=SQUARES)
         self.assertEqual(named, sheet)
 
+    def test_unlike_lengths(self):
+        table = [[ONE] * 3] * 3
+        lengths = [[(1, 1), (3, 1)]] * 3, [[(2, 1)] * 3, [(1, 2)] * 3]
+        self.check(table, lengths, sheet_of(table, *lengths, (1, 4)), (1, 4))
+        table = [[ONE] * 2] * 4
+        lengths = [[(1, 3)]] * 4, [[(k, 1)] * 2 for k in (3, 1, 2)]
+        sheet = sheet_of(table, *lengths, (5, 1))
+        self.check(table, lengths, sheet, (5, 1))
+        self.assertEqual(spot(sheet, 7), (Fraction(1, 3), 6))
+
     def test_depth_goes_on_from_plate_to_plate(self):
         random = Random(2)
         seen = False

@@ -4,7 +4,7 @@ from itertools import product
 
 from fourcreases.errors import NoCrease, NoSlit
 from fourcreases.motions import can_fold, motions, still_creases
-from fourcreases.slits import least_slit, slit_folds, slit_motions
+from fourcreases.slits import first_slits, least_slit, longer_slits, slit_folds, slit_motions
 from tests.makers import (
     chain_net, fold_net, grid, kites, ladder, rhombs, single, small_fold_net, star, stiff_net, triangle_nets, uneven_nets,
     with_fins, zigzag,
@@ -174,6 +174,15 @@ class ErrorsTest(unittest.TestCase):
 
 
 class LeastTest(unittest.TestCase):
+    def test_longer_and_longer_slits(self):
+        for sheet in (*some_sheets(), stiff_net(), chain_net(9)):
+            slits = first_slits(sheet)
+            found = list(slits)
+            while slits:
+                slits = longer_slits(sheet, slits)
+                found.extend(slits)
+            self.assertEqual(found, all_slits(sheet, 10))
+
     def test_by_all_slits(self):
         lengths = set()
         for sheet in (*some_sheets(), half_fold_net()):

@@ -120,6 +120,12 @@ class FulfilsTest(unittest.TestCase):
             wish = [wish[:2], wish[2:]]
             self.assertIs(fulfils([[OTHER, OTHER], [OTHER, ((1, 5), (7, 3))]], wish), False)
 
+    def test_quotients_alone_are_not_enough(self):
+        # With the same uv everywhere the quotients multiply to 1, whether or not the angles make a whole turn.
+        two, three, six = (2, 1), (3, 1), (6, 1)
+        self.assertIs(fulfils([[(two, three), (three, two)], [((1, 1), six), (six, (1, 1))]], [[1, 1], [1, 1]]), False)
+        self.assertIs(fulfils([[(two, three), (three, two)], [(three, two), (two, three)]], [[1, 1], [1, 1]]), True)
+
     def test_told_fraction_0(self):
         # m is 0 for u v = 1, n for u = v.
         self.assertIs(fulfils([[((1, 2), (2, 1))]], [[1]]), False)
