@@ -59,11 +59,17 @@ def sine_between(one, other):
     return (abs(top), bottom)
 
 
+def tip_of(way, corner):
+    """The name of the end of a crease at a corner of a net that leads outwards."""
+    i, j = corner
+    return (way, i, j)
+
+
 def lay_tips(points, leads, edge, depth):
     """Add the ends of the creases of an edge, so that each outer side is parallel to the one between two corners.
 
     An edge is the way of its creases, the way from each corner to the next one, and the row of its corners.
-    The points are told by names: (i, j) for a corner, (way, i, j) for the end of its crease.
+    The points are told by names: (i, j) for a corner, `tip_of` it for the end of a crease.
     """
     way, along, row = edge
     size = divided(depth, sine_between(leads[row[0]][way], leads[row[0]][along]))
@@ -72,7 +78,7 @@ def lay_tips(points, leads, edge, depth):
             ahead = leads[row[at - 1]]
             height = times(size, sine_between(ahead[way], ahead[along]))
             size = divided(height, sine_between(leads[corner][way], ahead[along]))
-        points[(way, *corner)] = onward(points[corner], leads[corner][way], size)
+        points[tip_of(way, corner)] = onward(points[corner], leads[corner][way], size)
 
 
 def edge_plates(edge):
@@ -80,7 +86,7 @@ def edge_plates(edge):
     way, _, row = edge
     plates = []
     for at in range(1, len(row)):
-        plate = [(way, *row[at - 1]), (way, *row[at]), row[at], row[at - 1]]
+        plate = [tip_of(way, row[at - 1]), tip_of(way, row[at]), row[at], row[at - 1]]
         # What lies in the south or east is on the right of this way along the edge.
         plates.append(plate if way in (SOUTH, EAST) else plate[::-1])
     return plates
@@ -88,10 +94,10 @@ def edge_plates(edge):
 
 def lay_beside(points, corner, one, other):
     """Add the last corner of the plate between two ways at a corner of the net, and return the plate."""
-    near, far = points[(one, *corner)], points[(other, *corner)]
+    near, far = points[tip_of(one, corner)], points[tip_of(other, corner)]
     middle = points[corner]
     points[(one,)] = (minus(plus(near[0], far[0]), middle[0]), minus(plus(near[1], far[1]), middle[1]))
-    return [corner, (one, *corner), (one,), (other, *corner)]
+    return [corner, tip_of(one, corner), (one,), tip_of(other, corner)]
 
 
 def edges_of(columns, rows):

@@ -183,6 +183,26 @@ class CodeTest(unittest.TestCase):
             if isinstance(node.op, ast.Pow):
                 self.assertIsInstance(node.right, ast.Constant, (name, node.lineno))
 
+    def test_stars(self):
+        """No star in an index; behind one in a call stand only names."""
+        for name, node in nodes(ast.Subscript):
+            items = node.slice.elts if isinstance(node.slice, ast.Tuple) else []
+            self.assertFalse([item for item in items if isinstance(item, ast.Starred)], (name, node.lineno))
+        for name, node in nodes(ast.Call):
+            for item in node.args:
+                if isinstance(item, ast.Starred):
+                    self.assertIsInstance(item.value, ast.Name, (name, node.lineno))
+            self.assertFalse([word for word in node.keywords if word.arg is None], (name, node.lineno))
+
+    def test_finally_puts_things_back_alone(self):
+        for name, node in nodes(ast.Try):
+            for row in node.finalbody:
+                self.assertIsInstance(row, ast.Assign, (name, node.lineno))
+                for part in ast.walk(row):
+                    self.assertIsInstance(
+                        part, (ast.Assign, ast.Tuple, ast.Name, ast.Attribute, ast.expr_context), (name, node.lineno)
+                    )
+
     def test_is_takes_none_true_and_false(self):
         for name, node in nodes(ast.Compare):
             for operator, right in zip(node.ops, node.comparators):
